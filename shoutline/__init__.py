@@ -1,0 +1,1 @@
+"""Shoutline: many hands on one line, by hush, word and din."""
