@@ -3,7 +3,7 @@
 import unittest
 
 from shoutline import errors
-from tests.refusals import KINDS
+from tests.helper import KINDS
 
 
 class TheClasses(unittest.TestCase):

@@ -7,9 +7,7 @@ import unittest
 from shoutline.errors import NoHands
 from shoutline.line import heard, on_line
 from shoutline.spans import Half, Open, top_of
-from tests.refusals import assert_refused
-
-SIXTY_ONE_FIGURES = 10**61 - 1
+from tests.helper import SIXTY_ONE_FIGURES, assert_refused
 
 
 class TheInterface(unittest.TestCase):

@@ -5,9 +5,7 @@ import unittest
 
 from shoutline.errors import NoSpan
 from shoutline.spans import Half, Open, Span, top_of
-from tests.refusals import assert_refused
-
-SIXTY_ONE_FIGURES = 10**61 - 1
+from tests.helper import SIXTY_ONE_FIGURES, assert_refused
 
 
 class TheInterface(unittest.TestCase):

@@ -1,0 +1,58 @@
+"""What the tests share: asking for what must be refused, and books as plain rows."""
+
+from shoutline import errors
+
+SIXTY_ONE_FIGURES = 10**61 - 1
+
+KINDS = (
+    errors.NoSpan,
+    errors.NoHands,
+    errors.NoHand,
+    errors.NoTurn,
+    errors.NoHall,
+    errors.NoText,
+    errors.NoOrder,
+    errors.NoLine,
+)
+
+# Hands, each with a width whose line they are not on.
+NOT_ON_LINE = (
+    ([1], 0),
+    ([0, 0], 0),
+    ([-1], 0),
+    ([8], 3),
+    ([0, 9, 1], 3),
+    ([3, 3], 3),
+    ([5, 1, 2, 5], 3),
+    ([3, -8, 1], 3),
+    ([-1], 3),
+    ([1, 2, SIXTY_ONE_FIGURES], 3),
+    ([2**200], 200),
+    ([2**200 - 1, 7, 2**200 - 1], 200),
+    ([1, 2, -SIXTY_ONE_FIGURES], 200),
+)
+
+
+def assert_refused(case, wanted, asked, *arguments):
+    with case.assertRaises(errors.LineError) as caught:
+        asked(*arguments)
+    error = caught.exception
+    case.assertIsInstance(error, ValueError)
+    case.assertEqual([kind for kind in KINDS if isinstance(error, kind)], [wanted])
+
+
+# Refused with NoHands, and the list of hands stays as it was.
+def assert_no_hands(case, asked, hands, *arguments):
+    before = list(hands)
+    assert_refused(case, errors.NoHands, asked, hands, *arguments)
+    case.assertEqual(hands, before)
+
+
+# Spans are compared by their texts, which no two unlike spans share.
+def rows(book):
+    return [(span.shown(), answer) for span, answer in book]
+
+
+def all_sets(width):
+    numbers = range(2**width)
+    return [[number for number in numbers if chosen >> number & 1] for chosen in range(2 ** 2**width)]
