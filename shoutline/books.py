@@ -12,6 +12,11 @@ def is_right(book, top):
 
 
 def cut(book, top):
+    return cut_by(book, top, follow)
+
+
+# The step tells what is due behind a row, as not all books go on alike.
+def cut_by(book, top, step):
     # Each call that is due is (span, the fewest hands that must be in it,
     # whether it is a lower half); the last one in the list is the next.
     due = [(top, 0, False)]
@@ -21,7 +26,7 @@ def cut(book, top):
         call = due.pop()
         if not can_answer(row, call):
             return place
-        follow(row, call, due)
+        step(row, call, due)
     if len(due) > 0:
         return len(book)
     return None

@@ -4,6 +4,9 @@ from shoutline import errors
 
 SIXTY_ONE_FIGURES = 10**61 - 1
 
+HUSH = ("hush",)
+DIN = ("din",)
+
 KINDS = (
     errors.NoSpan,
     errors.NoHands,
@@ -31,6 +34,35 @@ NOT_ON_LINE = (
     ([2**200 - 1, 7, 2**200 - 1], 200),
     ([1, 2, -SIXTY_ONE_FIGURES], 200),
 )
+
+# Hands that are not on the line without a width either.
+NOT_ON_OPEN_LINE = (
+    [-1],
+    [0, 0],
+    [4, -1, 5],
+    [SIXTY_ONE_FIGURES, 1, SIXTY_ONE_FIGURES],
+    [1, -SIXTY_ONE_FIGURES],
+)
+
+# Hands on the line of two hundred bits.
+GREAT_HANDS = (
+    [],
+    [0],
+    [2**200 - 1],
+    [0, 1],
+    [2**200 - 1, 2**200 - 2],
+    [0, 2**200 - 1],
+    [2**199, 2**199 - 1],
+    [2**199, 2**199 - 1, 0],
+    [2**bits for bits in range(120)],
+    [2**200 - 2**bits for bits in range(120)],
+    [7**number % 2**200 for number in range(60, 180)],
+    [2**190 * number + 5 for number in range(120)],
+)
+
+
+def word(number):
+    return ("word", number)
 
 
 def assert_refused(case, wanted, asked, *arguments):

@@ -7,15 +7,9 @@ from shoutline.books import cut, is_right
 from shoutline.errors import NoHands
 from shoutline.spans import Half, Open, top_of
 from shoutline.talks import talk, words
-from tests.helper import SIXTY_ONE_FIGURES, all_sets, rows
+from tests.helper import DIN, HUSH, SIXTY_ONE_FIGURES, all_sets, rows, word
 
-HUSH = ("hush",)
-DIN = ("din",)
 ROOM = 32
-
-
-def word(number):
-    return ("word", number)
 
 
 # Whether some right book begins with these rows. If some hands shout so, then

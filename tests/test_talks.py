@@ -8,14 +8,17 @@ from shoutline.errors import NoHands
 from shoutline.line import heard
 from shoutline.spans import Half, Open, Span, top_of
 from shoutline.talks import talk, words
-from tests.helper import NOT_ON_LINE, SIXTY_ONE_FIGURES, all_sets, assert_no_hands, rows
-
-HUSH = ("hush",)
-DIN = ("din",)
-
-
-def word(number):
-    return ("word", number)
+from tests.helper import (
+    DIN,
+    HUSH,
+    NOT_ON_LINE,
+    NOT_ON_OPEN_LINE,
+    SIXTY_ONE_FIGURES,
+    all_sets,
+    assert_no_hands,
+    rows,
+    word,
+)
 
 
 # Point 11 told again, span within span.
@@ -222,7 +225,7 @@ class NotOnTheLine(unittest.TestCase):
                 assert_no_hands(self, talk, list(hands), top_of(width))
 
     def test_from_the_top_without_a_width(self):
-        for hands in ([-1], [0, 0], [4, -1, 5], [SIXTY_ONE_FIGURES, 1, SIXTY_ONE_FIGURES], [1, -SIXTY_ONE_FIGURES]):
+        for hands in NOT_ON_OPEN_LINE:
             with self.subTest(hands=hands):
                 assert_no_hands(self, talk, list(hands), top_of())
 
