@@ -1,7 +1,9 @@
-"""What the tests share: asking for what must be refused, and books as plain rows."""
+"""What the tests share: asking for what must be refused, books as plain rows, desks with hands."""
 
 from shoutline import errors
+from shoutline.desk import Desk
 
+SIXTY_FIGURES = 10**60 - 1
 SIXTY_ONE_FIGURES = 10**61 - 1
 
 HUSH = ("hush",)
@@ -83,6 +85,15 @@ def assert_no_hands(case, asked, hands, *arguments):
 # Spans are compared by their texts, which no two unlike spans share.
 def rows(book):
     return [(span.shown(), answer) for span, answer in book]
+
+
+# A new desk that was told a line and its hands.
+def desk_with(first, hands):
+    desk = Desk()
+    desk.told(first)
+    for hand in hands:
+        desk.told(f"come {hand}")
+    return desk
 
 
 def all_sets(width):
